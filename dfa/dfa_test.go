@@ -137,16 +137,52 @@ func TestRunTellsWhatTheAutomatonTells(t *testing.T) { // P7.1, P7.3
 	}
 }
 
+func TestRunOfTheMostStates(t *testing.T) { // P7.3
+	r := rand.New(rand.NewSource(80))
+	for range 20 {
+		var globs []string
+		for i := range api.MaxGlobs {
+			parts := make([]string, api.MaxParts)
+			for j := range parts {
+				parts[j] = []string{"a", "b", "c", "*"}[r.Intn(4)]
+			}
+			if i%5 == 0 {
+				parts[r.Intn(8)] = "**"
+			}
+			globs = append(globs, strings.Join(parts, "."))
+		}
+		n, _ := nfa.Build(globs)
+		d, e := dfa.Build(n, 100000)
+		if len(n.Ways) != 180 || e != api.OK {
+			t.Fatalf("Build(%q): %d states, %d", globs, len(n.Ways), e)
+		}
+		for range 200 {
+			topic := strings.ReplaceAll(globs[r.Intn(len(globs))], "**", "a")
+			topic = strings.ReplaceAll(topic, "*", []string{"a", "b", "c", "d"}[r.Intn(4)])
+			var want []int
+			for i, glob := range globs {
+				if name.Meets(glob, topic) {
+					want = append(want, i)
+				}
+			}
+			if got := dfa.Run(d, topic); !slices.Equal(got, want) {
+				t.Fatalf("Run of %q on %q: %v, want %v", globs, topic, got, want)
+			}
+		}
+	}
+}
+
 func TestWhateverAutomatonThereIsNoPanic(t *testing.T) { // R1
 	for _, n := range []api.Nfa{
 		{Begin: []int{0, -1, 5}}, {Ways: make([][]api.Edge, 1000), Begin: []int{999}}, {Ways: make([][]api.Edge, 180), Begin: []int{179}},
 		{Signs: []string{"b", "a"}, Ways: [][]api.Edge{{{Sign: -1, To: 9}, {Sign: 0, To: -3}, {Sign: 7, To: 0}}}, Done: [][]int{{-4, 9, -4}, {1}}, Begin: []int{0}},
+		{Signs: []string{"a"}, Ways: [][]api.Edge{{{Sign: 0, To: 1}}, {{Sign: 1, To: 1}}}, Done: [][]int{{0}}, Begin: []int{0}},
 	} {
 		d, _ := dfa.Build(n, 50)
 		dfa.Run(d, "a.b")
 	}
 	for _, d := range []api.Dfa{
-		{}, {Next: [][]int{{5}}}, {Next: [][]int{{0}}}, {Next: [][]int{{-9}}, Done: [][]int{{0}}}, {Signs: []string{"b", "a", "c"}, Next: [][]int{{0}, {}}, Done: [][]int{{0}}}, {Done: [][]int{{3}}},
+		{}, {Next: [][]int{{5}}}, {Next: [][]int{{1}}}, {Next: [][]int{{0}}}, {Next: [][]int{{-9}}, Done: [][]int{{0}}}, {Signs: []string{"b", "a", "c"}, Next: [][]int{{0}, {}}, Done: [][]int{{0}}}, {Done: [][]int{{3}}}, {Next: [][]int{{1}, {1}}, Done: [][]int{{3}}},
 	} {
 		dfa.Run(d, "a")
 		dfa.Run(d, "c.z.b")

@@ -128,10 +128,13 @@ func TestWrite(t *testing.T) { // P17.2
 	if !same(got, want) || e != api.OK || !same(d, drive("abcd")) {
 		t.Errorf("Write: %v, %d", got, e)
 	}
-	one, _ := disk.Write(got, 0, cell("1"))
-	other, _ := disk.Write(got, 3, cell("2"))
-	if one.Queue[2] != (api.Wait{At: 0, S: cell("1")}) || other.Queue[2] != (api.Wait{At: 3, S: cell("2")}) || !same(got, want) {
-		t.Error("two drives of one have writes in common")
+	for n := 2; n < 9; n++ {
+		one, _ := disk.Write(got, 0, cell("1"))
+		other, _ := disk.Write(got, 3, cell("2"))
+		if one.Queue[n] != (api.Wait{At: 0, S: cell("1")}) || other.Queue[n] != (api.Wait{At: 3, S: cell("2")}) || len(got.Queue) != n {
+			t.Error("two drives of one have writes in common")
+		}
+		got = other
 	}
 	for _, s := range []string{"", "x", cell("x")[1:], cell("x") + "x"} {
 		if got, e := disk.Write(d, 99, s); !same(got, api.Drive{}) || e != api.ErrArg {

@@ -147,8 +147,10 @@ func TestFeedRefuses(t *testing.T) { // P10.2
 			t.Errorf("%s: %v, %v, %v, %d", c.what, l, fired, over, e)
 		}
 	}
-	if l, _, _, e := inst.Feed(pair, full(), number(4), kept(0, 99, 5)); len(l) != 40 || inst.Count(l) != 41 || e != api.OK {
-		t.Errorf("a key that there is has room among %d: %d", len(l), e)
+	for _, key := range []int64{0, 4, 78} {
+		if l, _, _, e := inst.Feed(pair, full(), number(key), kept(0, 99, 5)); len(l) != 40 || inst.Count(l) != 41 || e != api.OK {
+			t.Errorf("a key that there is has room among %d: %d", len(l), e)
+		}
 	}
 	if l, fired, _, e := inst.Feed(pair, full(), number(4), kept(1, 99, 5)); len(l) != 39 || len(fired) != 2 || e != api.OK {
 		t.Errorf("what fires makes room: %d, %d", len(l), e)

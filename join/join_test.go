@@ -104,6 +104,9 @@ func TestExpire(t *testing.T) { // P9.2
 			t.Errorf("Expire at %d: %v, %v, %d", now, left, over, e)
 		}
 	}
+	if left, over, e := join.Expire(all(3, 5), l[:1], 1); left != nil || over != nil || e != api.ErrArg {
+		t.Errorf("Expire of one, ahead of it: %v, %v, %d", left, over, e)
+	}
 	if left, over, e := join.Expire(all(3, 5), nil, 0); len(left) != 0 || len(over) != 0 || e != api.OK {
 		t.Errorf("Expire of nothing: %v, %v, %d", left, over, e)
 	}
@@ -154,7 +157,7 @@ func TestFeedRefuses(t *testing.T) { // P9.3
 		want api.Errno
 	}{
 		{all(2, 5), l, kept(2, 3, 5), api.ErrArg}, {all(2, 5), l, kept(-1, 3, 5), api.ErrArg}, {all(2, 5), l, kept(0, 3, -1), api.ErrArg}, {all(2, 5), l, kept(0, 3, api.MaxTime+1), api.ErrArg}, {all(2, 5), l, kept(0, 3, math.MinInt), api.ErrArg},
-		{all(2, 5), l, kept(9, 1, 0), api.ErrArg}, {all(2, 5), l, kept(1, 3, 3), api.ErrLate}, {all(2, 5), l, kept(1, 1, 3), api.ErrLate},
+		{all(2, 5), l, kept(9, 1, 0), api.ErrArg}, {all(2, 5), l, kept(1, 3, 3), api.ErrLate}, {all(2, 5), l, kept(1, 1, 3), api.ErrLate}, {all(2, 5), l[:1], kept(1, 3, 1), api.ErrLate},
 		{all(2, 5), l, kept(1, 1, 4), api.ErrThere}, {all(2, 5), l, kept(1, 2, 99), api.ErrThere},
 		{all(2, 5), waiting(29, 0), kept(0, 99, 5), api.ErrFull}, {all(2, 5), waiting(29, 0), kept(0, 5, 5), api.ErrThere}, {count(2, 30, 5), append(waiting(28, 0), kept(1, 77, 3))[1:], kept(0, 77, 5), api.ErrThere},
 	} {

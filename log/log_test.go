@@ -179,6 +179,15 @@ func TestScan(t *testing.T) { // P18.3
 	if records, behind, e := log.Scan(d, tape(1, 2, 0, 7)); !slices.Equal(records, want[:1]) || behind != tape(1, 2, 1, 8) || e != api.OK {
 		t.Errorf("Scan of a tape that ends in a record: %q, %v, %d", records, behind, e)
 	}
+	if records, behind, e := log.Scan(d, tape(1, 9, 0, 7)); !slices.Equal(records, want) || behind != tape(1, 9, 9, 12) || e != api.OK {
+		t.Errorf("Scan of a tape that is full: %q, %v, %d", records, behind, e)
+	}
+	if records, behind, e := log.Scan(d, tape(1, 9, 9, 7)); len(records) != 0 || behind != tape(1, 9, 9, 7) || e != api.OK {
+		t.Errorf("Scan from the end on: %q, %v, %d", records, behind, e)
+	}
+	if records, behind, e := log.Scan(d, tape(1, 6, 0, 7)); !slices.Equal(records, want[:3]) || behind != tape(1, 6, 4, 10) || e != api.OK {
+		t.Errorf("Scan of a tape that ends in a long record: %q, %v, %d", records, behind, e)
+	}
 	waiting, _ := disk.Write(newDrive(t, 20), 1, d.Cells[1])
 	if records, _, e := log.Scan(waiting, first); !slices.Equal(records, want[:1]) || e != api.OK {
 		t.Errorf("Scan of a write that waits: %q, %d", records, e)

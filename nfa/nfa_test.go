@@ -157,6 +157,7 @@ func TestWhateverAutomatonThereIsNoPanic(t *testing.T) { // R1
 	for _, n := range []api.Nfa{
 		{}, {Begin: []int{0, -1, 5}}, {Signs: []string{"b", "a"}, Ways: [][]api.Edge{ways(-1, 9, -1, 0, 0, -3, -5, 0, 7, 0)}, Begin: []int{0}},
 		{Ways: make([][]api.Edge, 3), Done: [][]int{{-4, 9}}, Begin: []int{2, 0}}, {Done: make([][]int, 5), Begin: []int{3}},
+		{Signs: []string{"a"}, Ways: [][]api.Edge{ways(0, 1), ways(1, 1)}, Done: [][]int{{0}}, Begin: []int{0}},
 	} {
 		before := shape(n)
 		for sign := -6; sign < 9; sign++ {

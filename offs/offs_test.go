@@ -74,7 +74,9 @@ func TestMay(t *testing.T) { // P14.1
 	most.Where = slices.Repeat([]api.Pred{{Op: "all"}}, 6)
 	keyless := def()
 	keyless.Key = ""
-	for _, d := range []api.Def{def(), most, keyless} {
+	least := def()
+	least.Globs = least.Globs[:1]
+	for _, d := range []api.Def{def(), most, keyless, least} {
 		if !offs.May(d) {
 			t.Errorf("May(%v) is false", d)
 		}

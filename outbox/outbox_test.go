@@ -120,7 +120,7 @@ func TestAdd(t *testing.T) { // P15.2
 		x    api.Out
 		want api.Errno
 	}{
-		{s, out(6, 0, 0), api.ErrLate}, {s, out(1, 0, 0), api.ErrLate}, {s, out(4, 0, 0), api.ErrLate}, {some(), out(math.MaxUint64, 0, 0), api.ErrLate}, {full(), out(200, 0, 0), api.ErrLate}, {full(), out(201, 0, 0), api.ErrFull}, {full(), out(201, 5, 0), api.ErrArg}, {s, out(1, -1, 0), api.ErrArg},
+		{s, out(6, 0, 0), api.ErrLate}, {s, out(1, 0, 0), api.ErrLate}, {s, out(4, 0, 0), api.ErrLate}, {some(), out(math.MaxUint64, 0, 0), api.ErrLate}, {s[:1], out(1, 0, 0), api.ErrLate}, {s[:1], out(2, 0, 0), api.ErrLate}, {full(), out(200, 0, 0), api.ErrLate}, {full(), out(201, 0, 0), api.ErrFull}, {full(), out(201, 5, 0), api.ErrArg}, {s, out(1, -1, 0), api.ErrArg},
 	} {
 		if got, e := outbox.Add(c.l, c.x); got != nil || e != c.want {
 			t.Errorf("Add(%v): %v, %d", c.x, got, e)
@@ -216,7 +216,7 @@ func TestAgain(t *testing.T) { // P15.3
 		now  int
 		want api.Errno
 	}{
-		{s, out(5, 4, 9), 8, api.ErrThere}, {full(), out(4, 4, 9), 8, api.ErrThere}, {full(), out(3, 4, 9), 8, api.ErrFull}, {full(), out(3, 5, 9), 8, api.ErrArg},
+		{s, out(5, 4, 9), 8, api.ErrThere}, {s, out(2, 4, 9), 8, api.ErrThere}, {s, out(math.MaxUint64, 4, 9), 8, api.ErrThere}, {full(), out(4, 4, 9), 8, api.ErrThere}, {full(), out(3, 4, 9), 8, api.ErrFull}, {full(), out(3, 5, 9), 8, api.ErrArg},
 		{s, out(3, 4, 9), -1, api.ErrArg}, {s, out(3, 4, 9), api.MaxTime + 1, api.ErrArg}, {s, out(5, 4, 9), -1, api.ErrArg}, {full(), out(3, 4, 9), math.MinInt, api.ErrArg},
 	} {
 		if got, e := outbox.Again(c.l, c.x, c.now); got != nil || e != c.want {

@@ -34,7 +34,7 @@ func maySubs(s api.Router) bool {
 // maySub: may a subscription of a router be, whose topics may be?
 func maySub(s api.Router, sub api.Sub) bool {
 	return offs.May(sub.D) && mayOffs(s, sub.Offs) &&
-		inst.Check(sub.D.J, sub.Insts) == api.OK && mayWait(s, sub) && mayCount(sub)
+		inst.Check(sub.D.J, sub.Insts) == api.OK && mayCount(sub) && mayWait(s, sub)
 }
 
 func mayOffs(s api.Router, l []api.Off) bool {
@@ -48,8 +48,9 @@ func mayOffs(s api.Router, l []api.Off) bool {
 // endOf is the end of a topic that may be.
 func endOf(t api.Topic) int { return t.First + len(t.Log) }
 
+// mayWait: may what waits be, if the counts may be?
 func mayWait(s api.Router, sub api.Sub) bool {
-	isWrong := func(x api.Kept) bool { return x.Id < 1 || sub.Taken < 0 || x.Id > uint64(sub.Taken) || x.At > s.Now }
+	isWrong := func(x api.Kept) bool { return x.Id < 1 || x.Id > uint64(sub.Taken) || x.At > s.Now }
 	return !slices.ContainsFunc(sub.Insts, func(in api.Inst) bool { return slices.ContainsFunc(in.L, isWrong) })
 }
 

@@ -374,8 +374,10 @@ func TestSubscribe(t *testing.T) { // P16.3
 	}
 	s, e = route.Subscribe(r.s, api.Def{Name: "b"})
 	r.refused("a definition that may not be", s, e, api.ErrArg)
-	s, e = route.Subscribe(r.s, anyDef("m", "b"))
-	r.refused("a name that is there", s, e, api.ErrThere)
+	for _, name := range []string{"b", "m", "z"} {
+		s, e = route.Subscribe(r.s, anyDef(name, "b"))
+		r.refused("a name that is there", s, e, api.ErrThere)
+	}
 	for _, name := range []string{"d", "e", "f", "g"} {
 		s, e = route.Subscribe(r.s, anyDef(name, "a"))
 		r.put(s, e)

@@ -356,6 +356,9 @@ func TestTick(t *testing.T) { // P16.7
 		s, e := route.Tick(r.s, n)
 		r.refused("Tick", s, e, api.ErrArg)
 	}
+	if s, e := route.Tick(api.Router{Now: 1}, api.MaxTime); s.Now != 1 || e != api.ErrArg {
+		t.Errorf("Tick past the end of time, of no subscriptions: %v, %d", s, e)
+	}
 	r.tick(api.MaxTime - 105)
 	r.tick(0)
 	s, e := route.Tick(r.s, 1)

@@ -67,8 +67,10 @@ func TestLay(t *testing.T) { // P3.2
 		if s, e := val.Lay(c.v); s != c.want || e != api.OK {
 			t.Errorf("Lay(%v): %x, %d", c.v, s, e)
 		}
-		if v, n, e := val.Take(c.want + "behind"); v != c.v || n != len(c.want) || e != api.OK {
-			t.Errorf("Take(%x): %v, %d, %d", c.want, v, n, e)
+		for _, behind := range []string{"", "\x00", "behind"} {
+			if v, n, e := val.Take(c.want + behind); v != c.v || n != len(c.want) || e != api.OK {
+				t.Errorf("Take(%x): %v, %d, %d", c.want+behind, v, n, e)
+			}
 		}
 	}
 	for _, v := range []api.Value{text(sixty + "x"), {Num: true, S: "x"}, {N: 1}} {
