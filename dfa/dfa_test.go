@@ -182,7 +182,7 @@ func TestWhateverAutomatonThereIsNoPanic(t *testing.T) { // R1
 		dfa.Run(d, "a.b")
 	}
 	for _, d := range []api.Dfa{
-		{}, {Next: [][]int{{5}}}, {Next: [][]int{{1}}}, {Next: [][]int{{0}}}, {Next: [][]int{{-9}}, Done: [][]int{{0}}}, {Signs: []string{"b", "a", "c"}, Next: [][]int{{0}, {}}, Done: [][]int{{0}}}, {Done: [][]int{{3}}}, {Next: [][]int{{1}, {1}}, Done: [][]int{{3}}},
+		{}, {Next: [][]int{{5}}}, {Next: [][]int{{1}}}, {Signs: []string{"a"}, Next: [][]int{{0}}}, {Next: [][]int{{0}}}, {Next: [][]int{{-9}}, Done: [][]int{{0}}}, {Signs: []string{"b", "a", "c"}, Next: [][]int{{0}, {}}, Done: [][]int{{0}}}, {Done: [][]int{{3}}}, {Next: [][]int{{1}, {1}}, Done: [][]int{{3}}},
 	} {
 		dfa.Run(d, "a")
 		dfa.Run(d, "c.z.b")
