@@ -42,6 +42,7 @@ func mayNot() map[string]api.Event {
 	}
 	put("no topic", func(e *api.Event) { e.Topic = "" })
 	put("a glob", func(e *api.Event) { e.Topic = "a.*" })
+	put("a long topic", func(e *api.Event) { e.Topic = strings.Repeat("t", 41) })
 	put("no producer", func(e *api.Event) { e.Producer = "" })
 	put("a producer of two parts", func(e *api.Event) { e.Producer = "a.b" })
 	put("a long producer", func(e *api.Event) { e.Producer = strings.Repeat("p", 17) })
@@ -51,6 +52,7 @@ func mayNot() map[string]api.Event {
 	put("a bad name", func(e *api.Event) { e.L[0].Name = "K" })
 	put("a wild name", func(e *api.Event) { e.L[0].Name = "*" })
 	put("an empty name", func(e *api.Event) { e.L[0].Name = "" })
+	put("a long name", func(e *api.Event) { e.L[1].Name = strings.Repeat("x", 17) })
 	put("a long value", func(e *api.Event) { e.L[1].V.S = strings.Repeat("x", 61) })
 	put("two values", func(e *api.Event) { e.L[0].V.S = "x" })
 	put("nine fields", func(e *api.Event) {
@@ -177,6 +179,7 @@ func layAny(e api.Event) string {
 }
 
 func TestTakeRefuses(t *testing.T) { // P4.2
+	tooLong := []string{"a long topic", "a long producer", "a long name", "a long value", "nine fields"}
 	for what, bad := range mayNot() {
 		if what == "two values" {
 			continue // they have no octets
@@ -185,24 +188,51 @@ func TestTakeRefuses(t *testing.T) { // P4.2
 		if got, n, e := event.Take(s); !event.Same(got, api.Event{}) || n != 0 || e != api.ErrForm {
 			t.Errorf("Take of %s: %v, %d, %d", what, got, n, e)
 		}
-		if got, n, e := event.Take(s[:len(s)-1]); !event.Same(got, api.Event{}) || n != 0 || what != "a long value" && e != api.ErrShort {
-			t.Errorf("Take of %s, cut: %v, %d, %d", what, got, n, e)
+		cut := api.ErrShort
+		if slices.Contains(tooLong, what) { // its length is wrong where it stands
+			cut = api.ErrForm
+		}
+		if got, n, e := event.Take(s[:len(s)-1]); !event.Same(got, api.Event{}) || n != 0 || e != cut {
+			t.Errorf("Take of %s, cut: %v, %d, %d, want %d", what, got, n, e, cut)
 		}
 	}
 	for s, want := range map[string]api.Errno{
-		"": api.ErrShort, "\x01a\x01b\x01": api.ErrShort, "\x7fa": api.ErrShort, "\x01A": api.ErrShort, "\x01A\x80": api.ErrShort,
-		strings.Repeat("\xff", 9) + "\x01a": api.ErrShort,
-		"\x81\x00a":                         api.ErrForm, "\x01A\x80\x00": api.ErrForm, "\x01a\x01b\x81\x00": api.ErrForm, "\x01a\x01b\x01\x80\x00": api.ErrForm,
-		"\x01a\x01b\x01\x01\x01k\x03":                                  api.ErrForm,
-		"\x01A\x01b\x01\x01\x01k\x03\x80\x00":                          api.ErrForm,
-		"\x01a\x01b\x01\x02\x01k\x01\x00":                              api.ErrShort,
-		"\x01a\x01b\x01\x02\x01k\x01\x00\x80\x00":                      api.ErrForm,
-		"\x01a\x01b\x01" + strings.Repeat("\xff", 9) + "\x01\x01k\x01": api.ErrShort,
-		"\xa0\x06" + strings.Repeat("a", 800) + "\x01b\x01\x00":        api.ErrForm,
-		"\xa0\x06" + strings.Repeat("a", 700):                          api.ErrShort,
+		"": api.ErrShort, "\x01a\x01b\x01": api.ErrShort, "\x01A": api.ErrShort, "\x01A\x80": api.ErrShort, "\x00": api.ErrShort, "\x80": api.ErrShort, "\xff": api.ErrShort,
+		"\x81\x00a": api.ErrForm, "\x01A\x80\x00": api.ErrForm, "\x01a\x01b\x81\x00": api.ErrForm, "\x01a\x01b\x01\x80\x00": api.ErrForm,
+		"\x01a\x01b\x01\x01\x01k\x03":             api.ErrForm,
+		"\x01A\x01b\x01\x01\x01k\x03\x80\x00":     api.ErrForm,
+		"\x01a\x01b\x01\x02\x01k\x01\x00":         api.ErrShort,
+		"\x01a\x01b\x01\x02\x01k\x01\x00\x80\x00": api.ErrForm,
 	} {
 		if got, n, e := event.Take(s); !event.Same(got, api.Event{}) || n != 0 || e != want {
 			t.Errorf("Take(%.60q): %v, %d, %d, want %d", s, got, n, e, want)
+		}
+	}
+}
+
+func TestTakeOfLengthsThatNoEventHas(t *testing.T) { // P4.2
+	most := strings.Repeat("\xff", 9) + "\x01"
+	for s, want := range map[string]api.Errno{
+		"\x28": api.ErrShort, "\x29": api.ErrForm, "u": api.ErrForm, "1": api.ErrForm, "\x7fa": api.ErrForm, "\x80\x01": api.ErrForm, most: api.ErrForm,
+		"\x29" + strings.Repeat("a", 41): api.ErrForm, "\x28" + strings.Repeat("a", 39): api.ErrShort,
+		"\x01a\x10": api.ErrShort, "\x01a\x11": api.ErrForm, "\x01a" + most: api.ErrForm, "\x01a\x11" + strings.Repeat("p", 16): api.ErrForm,
+		"\x01a\x01b\x01\x08": api.ErrShort, "\x01a\x01b\x01\x09": api.ErrForm, "\x01a\x01b\x01" + most: api.ErrForm,
+		"\x01a\x01b\x01\x01\x10": api.ErrShort, "\x01a\x01b\x01\x01\x11": api.ErrForm, "\x01a\x01b\x01\x01" + most: api.ErrForm,
+		"\x01a\x01b\x01\x01\x01k\x02\x3c": api.ErrShort, "\x01a\x01b\x01\x01\x01k\x02\x3d": api.ErrForm,
+		"\x01A\x01B\x00\x08": api.ErrShort, "\x01A\x01B\x00\x09": api.ErrForm, "\x00\x00\x00\x01\x00": api.ErrShort, // what is no name's counts behind all
+		"\xa0\x06" + strings.Repeat("a", 800) + "\x01b\x01\x00": api.ErrForm,
+	} {
+		if got, n, e := event.Take(s); !event.Same(got, api.Event{}) || n != 0 || e != want {
+			t.Errorf("Take(%.60q): %v, %d, %d, want %d", s, got, n, e, want)
+		}
+	}
+	for at, octet := range map[int]byte{0: 41, 4: 17, 8: 9, 9: 17, 13: 17} {
+		s := []byte(plainOctets)
+		s[at] = octet
+		for cut := at + 1; cut <= len(s); cut++ {
+			if _, _, e := event.Take(string(s[:cut])); e != api.ErrForm {
+				t.Errorf("Take of %d octets, of which octet %d is %d: %d", cut, at, octet, e)
+			}
 		}
 	}
 }

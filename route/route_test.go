@@ -311,7 +311,7 @@ func TestPublish(t *testing.T) { // P16.2
 	}
 	good := lay(ev("a.b", "p", 4, 1))
 	for octets, want := range map[string]api.Errno{
-		"": api.ErrShort, good[:5]: api.ErrShort, good + "\x00": api.ErrForm, "\x80\x00": api.ErrForm, lay(ev("z", "p", 3, 1)) + "x": api.ErrForm,
+		"": api.ErrShort, good[:5]: api.ErrShort, good + "\x00": api.ErrForm, "\x80\x00": api.ErrForm, "u": api.ErrForm, "\x28": api.ErrShort, lay(ev("z", "p", 3, 1)) + "x": api.ErrForm,
 		lay(ev("z", "p", 5, 1)): api.ErrGap, lay(ev("z", "p", 2, 1)): api.ErrLate, lay(ev("z", "r", 2, 1)): api.ErrGap,
 	} {
 		s, n, e := route.Publish(r.s, octets)

@@ -186,6 +186,8 @@ func TestDo(t *testing.T) { // P21.2
 	}
 	do(t, x, api.Op{Kind: api.Nack, Id: 1}, 1, api.OK)
 	do(t, x, api.Op{Kind: 0}, 0, api.ErrArg)
+	do(t, x, api.Op{Kind: api.Publish, S: "u"}, 0, api.ErrForm)
+	do(t, x, api.Op{Kind: api.Publish, S: "\x01"}, 0, api.ErrShort)
 	hasKept(t, x, small)
 }
 

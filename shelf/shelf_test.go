@@ -192,7 +192,8 @@ func TestDo(t *testing.T) { // P20.3
 		{api.Op{Kind: api.Subscribe, D: def("s")}, func(s api.Router) (api.Router, int, api.Errno) { r, e := route.Subscribe(s, def("s")); return r, 0, e }, 0, api.OK},
 		{api.Op{Kind: api.Subscribe, D: def("s")}, func(s api.Router) (api.Router, int, api.Errno) { r, e := route.Subscribe(s, def("s")); return r, 0, e }, 0, api.ErrThere},
 		{api.Op{Kind: api.Publish, S: lay(t, "b", 1)}, func(s api.Router) (api.Router, int, api.Errno) { return route.Publish(s, lay(t, "b", 1)) }, 0, api.OK},
-		{api.Op{Kind: api.Publish, S: "x"}, func(s api.Router) (api.Router, int, api.Errno) { return route.Publish(s, "x") }, 0, api.ErrShort},
+		{api.Op{Kind: api.Publish, S: "u"}, func(s api.Router) (api.Router, int, api.Errno) { return route.Publish(s, "u") }, 0, api.ErrForm},
+		{api.Op{Kind: api.Publish, S: "\x01"}, func(s api.Router) (api.Router, int, api.Errno) { return route.Publish(s, "\x01") }, 0, api.ErrShort},
 		{api.Op{Kind: api.Publish, S: strings.Replace(published, "\x01p\x01", "\x01p\x02", 1)}, func(s api.Router) (api.Router, int, api.Errno) {
 			return route.Publish(s, strings.Replace(published, "\x01p\x01", "\x01p\x02", 1))
 		}, 0, api.OK},
